@@ -1,0 +1,1 @@
+"""Spreadhues: colours poured into pictures, judged for all pictures."""

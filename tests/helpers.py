@@ -1,0 +1,152 @@
+"""What the tests share: strict comparisons, calls with lists and with tuples, and runs told cell by cell."""
+
+import copy
+import itertools
+import unittest
+
+from spreadhues.pictures import Picture
+
+# the interface of DOC.md, word by word
+ATTRIBUTES = {
+    "BadColour": ("colour",), "BadColours": ("index",), "BadRow": ("index",), "BadPicture": ("index", "what"),
+    "NoCell": ("cell",), "NoMark": ("mark",), "NoDrawing": ("mark",), "BadNaming": ("index",),
+    "BadOrder": ("order",), "BadSquares": ("index", "what"), "BadText": ("row",), "TooMany": ("most",),
+    "BadMarks": ("marks",), "BadPour": ("what",), "BadScript": ("index", "what"), "BadFirsts": ("index",),
+    "BadParting": ("parting",), "BadCourse": ("moment", "what"), "MarkCell": ("mark",), "BadRows": ("index",),
+    "BadCount": ("what",), "NotJoined": ("cell",), "BadShown": ("shown",), "BarredMark": ("mark",),
+    "NotSeparate": ("cell",), "BadTable": ("index", "what"), "OtherMarks": ("one", "other"),
+    "BadBundle": ("index", "what"), "WallUsed": ("wall",), "NoRoom": ("squares",), "BadTold": ("index", "what"),
+    "BadFate": ("thing",), "BadFact": ("fact",), "BadMoment": ("moment",), "BadWish": ("wish",),
+    "BadChoice": ("what",), "NoStanding": ("standing",), "BadSight": ("index", "what"), "BadScripts": ("index",),
+    "NoPicture": ("index",), "BadHands": ("what",), "BadMost": ("most",), "ForeignPour": ("turn",),
+    "NoPour": ("index",), "BadTimes": ("times",), "BadEdits": ("index", "what"), "LongScript": ("pours",),
+    "BadGoal": ("goal",), "NotHeld": ("goal",), "NothingLeft": ("many",), "StillTrial": ("pours",),
+}
+
+# nothing of these is a sequence, and none is a whole number
+NO_SEQUENCES = (None, 5, True, "01", b"01", {0, 1}, {0: 1}, range(2), 1.0)
+NO_NUMBERS = (None, True, False, "0", 0.0, 1.0, (0,), [0], {})
+
+
+def as_tuples(thing):
+    """Return the thing with tuples for all lists in it."""
+    if isinstance(thing, (list, tuple)):
+        return tuple(as_tuples(entry) for entry in thing)
+    return thing
+
+
+def as_lists(thing):
+    """Return the thing with lists for all tuples in it."""
+    if isinstance(thing, (list, tuple)):
+        return [as_lists(entry) for entry in thing]
+    return thing
+
+
+def is_same(one, other):
+    """Return whether two things are equal and of the same kinds all through: True is not 1, no list a tuple."""
+    if isinstance(one, tuple) or isinstance(other, tuple):
+        if not isinstance(one, tuple) or not isinstance(other, tuple) or len(one) != len(other):
+            return False
+        return all(is_same(mine, yours) for mine, yours in zip(one, other))
+    return type(one) is type(other) and one == other
+
+
+class Case(unittest.TestCase):
+    def same(self, told, due):
+        if not is_same(told, due):
+            self.fail(f"told {told!r}, due {due!r}")
+
+    def gives(self, due, action, *given):
+        """The call returns just this, with lists and with tuples, and leaves what is passed in as it was."""
+        for shape in (as_lists, as_tuples):
+            passed = [shape(thing) for thing in given]
+            kept = copy.deepcopy(passed)
+            self.same(action(*passed), due)
+            self.assertTrue(is_same(as_tuples(kept), as_tuples(passed)), "what was passed in has changed")
+
+    def yields(self, due, action, *given):
+        self.gives(due, lambda *passed: tuple(action(*passed)), *given)
+
+    def fails(self, error, told, action, *given):
+        """The call raises just this error with these attributes, with lists and with tuples."""
+        for shape in (as_lists, as_tuples):
+            passed = [shape(thing) for thing in given]
+            kept = copy.deepcopy(passed)
+            with self.assertRaises(error) as caught:
+                result = action(*passed)
+                if hasattr(result, "__next__"):
+                    next(result)
+            self.assertIs(type(caught.exception), error)
+            shown = tuple(getattr(caught.exception, name) for name in ATTRIBUTES[error.__name__])
+            self.same(as_tuples(shown), as_tuples(told))
+            self.assertTrue(is_same(as_tuples(kept), as_tuples(passed)), "what was passed in has changed")
+
+
+# runs told cell by cell, without a line of the package's own
+
+def naive_patch(colours, ties, cell):
+    patch = {cell}
+    while True:
+        more = {b for a, b in [*ties, *((b, a) for a, b in ties)]
+                if a in patch and b not in patch and colours[b] == colours[cell]}
+        if not more:
+            return patch
+        patch |= more
+
+
+def naive_parting(colours, ties, marks):
+    parting = []
+    for cell in marks:
+        patch = naive_patch(colours, ties, cell)
+        parting.append(min(k for k, other in enumerate(marks) if other in patch))
+    return tuple(parting)
+
+
+def naive_run(colours, ties, marks, script):
+    """Return for each moment (parting, colours of the marks, colours of all cells, cells in marks' patches)."""
+    colours = list(colours)
+    moments = []
+    for pour in [None, *script]:
+        if pour is not None:
+            for cell in naive_patch(colours, ties, marks[pour[0]]):
+                colours[cell] = pour[1]
+        inside = set()
+        for cell in marks:
+            inside |= naive_patch(colours, ties, cell)
+        moments.append((
+            naive_parting(colours, ties, marks), tuple(colours[cell] for cell in marks), tuple(colours), inside,
+        ))
+    return moments
+
+
+def naive_came(moments, cells):
+    came = [None] * cells
+    for moment, (_, _, _, inside) in enumerate(moments):
+        for cell in inside:
+            if came[cell] is None:
+                came[cell] = moment
+    return tuple(came)
+
+
+def all_ties(cells):
+    couples = list(itertools.combinations(range(cells), 2))
+    for many in range(len(couples) + 1):
+        yield from itertools.combinations(couples, many)
+
+
+def all_pictures(cells, colours, marks):
+    """All pictures of so many cells and colours with these marks."""
+    for shown in itertools.product(range(colours), repeat=cells):
+        for ties in all_ties(cells):
+            yield Picture(shown, ties, marks)
+
+
+def all_scripts(marks, colours, pours):
+    """All scripts of just so many pours."""
+    return itertools.product(itertools.product(range(marks), range(colours)), repeat=pours)
+
+
+def all_rows(colours, most):
+    """All rows of at most so many colours."""
+    for many in range(most + 1):
+        yield from itertools.product(range(colours), repeat=many)

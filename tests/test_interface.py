@@ -1,0 +1,81 @@
+"""The part "The interface" of DOC.md: names, arguments, default values, classes, where each stands."""
+
+import importlib
+import inspect
+import unittest
+
+INTERFACE = {
+    "colours": """MOST_COLOUR; is_whole(thing, low=None, high=None); check_colour(colour); check_colours(colours);
+        check_row(row, most=60); foreign_colours(many, used)""",
+    "pictures": """check_cell(picture, cell); check_mark(marks, mark); neighbours_of(picture, cell);
+        with_colours(picture, colours); with_marks(picture, marks); class Picture(colours, ties, marks)""",
+    "patches": """patch_of(picture, cell); patches_of(picture); is_one_patch(picture); coloured(picture, cells, colour);
+        distances_of(picture, cells); drawn_together(picture)""",
+    "along": """renamed_row(row, pairs); renamed_colours(picture, pairs); renamed_script(script, pairs);
+        exchanged_marks(picture, order); exchanged_script(script, order)""",
+    "squares": "line_picture(row); picture_of_squares(squares); class Squares(levels, places)",
+    "picturetext": """picture_text(picture); read_picture(text); squares_text(squares); read_squares(text);
+        script_text(script); read_script(text)""",
+    "scripts": """MOST_POURS; MOST_MARKS; check_marks(marks); check_pour(marks, pour); check_script(marks, script);
+        check_firsts(marks, firsts)""",
+    "lots": """is_parting(thing); check_parting(marks, parting); lots_of(parting); lot_of(parting, mark);
+        joined_lots(parting, chosen); is_finer(one, other); apart_all(marks); yields all_partings(marks)""",
+    "running": """parting_of(picture); poured(picture, pour); run_script(picture, script); course_of(picture, script);
+        marks_seen(picture, script); came_at(picture, script); idle_pours(picture, script);
+        struck_idle(picture, script); class Run(picture, moments)""",
+    "following": """check_course(firsts, script, course); seen_along(firsts, script, course);
+        joinings_of(firsts, script, course)""",
+    "painting": "free_cells(picture, script); reaching_colours(picture, script, cell)",
+    "rowsone": """struck_row(row); least_equal_row(row, first=None); shortest_over(rows, first=None);
+        hidden_places(row, within); is_hidden(row, within); rows_alike(one, other, first=None);
+        reach_lacks(one, other, first=None); class PartingLine(colours)""",
+    "reaching": """patch_depths(picture, mark); first_moments(picture, mark, row); depth_of(picture, mark);
+        reached_cells(picture, mark, row); shown_by_row(picture, mark, row); makes_one(picture, mark, row);
+        way_to(picture, mark, row, cell); way_fault(picture, mark, row, cell, answer); class WayTo(cells);
+        class Unreached(moments)""",
+    "everydepth": """every_length(colours, depth, first=None); count_every_rows(colours, depth, first=None);
+        held_depth(row, colours, first=None); count_lacking(row, colours, depth, first=None);
+        every_row(colours, depth, first=None); worst_way(row, colours, first=None);
+        lacking_row(row, colours, depth, first=None); yields all_every_rows(colours, depth, first=None)""",
+}
+
+# what the interface lists for a class beside its constructor, and == of [0.5]
+METHODS = {"Picture": ("__len__",), "Run": ("__len__", "__iter__", "course", "seen")}
+
+
+def entries():
+    for module, listed in INTERFACE.items():
+        for entry in listed.split(";"):
+            yield f"spreadhues.{module}", " ".join(entry.split())
+
+
+class Interface(unittest.TestCase):
+    def test_functions_and_classes(self):
+        for module, entry in entries():
+            words, brace, given = entry.partition("(")
+            kind, _, name = words.rpartition(" ")
+            thing = getattr(importlib.import_module(module), name)
+            if not brace:
+                self.assertIs(type(thing), int)
+                continue
+            self.assertEqual(thing.__module__, module, entry)
+            self.assertEqual(str(inspect.signature(thing)), f"({given}", entry)
+            self.assertEqual(inspect.isclass(thing), kind == "class", entry)
+            self.assertEqual(inspect.isgeneratorfunction(thing), kind == "yields", entry)
+
+    def test_methods_stand_in_the_class_itself(self):
+        for module, entry in entries():
+            if entry.startswith("class "):
+                name = entry[len("class "):].partition("(")[0]
+                own = vars(getattr(importlib.import_module(module), name))
+                for method in ("__init__", "__eq__", *METHODS.get(name, ())):
+                    self.assertIn(method, own, entry)
+
+    def test_properties(self):
+        run = vars(importlib.import_module("spreadhues.running").Run)
+        for name in ("course", "seen"):
+            self.assertIsInstance(run[name], property)
+
+
+if __name__ == "__main__":
+    unittest.main()
