@@ -100,10 +100,15 @@ def _least_line(lines):
 
 def _unlike_lines(one, other, start):
     """Return lines from the first colour on that part the rows, the least one of all among them."""
-    end = one[-1] if one else start
-    if end != (other[-1] if other else start):
+    if _end_of(one, start) != _end_of(other, start):
         return [(start,)]
-    return _lacking_lines(one, other, start, end) + _lacking_lines(other, one, start, end)
+    # the shortest way hidden in one row alone never ends with the common end colour:
+    # without this colour it would still be hidden in that row alone
+    return _lacking_lines(one, other, start) + _lacking_lines(other, one, start)
+
+
+def _end_of(row, start):
+    return row[-1] if row else start
 
 
 def reach_lacks(one, other, first=None):
@@ -115,38 +120,35 @@ def reach_lacks(one, other, first=None):
         return None
     lines = []
     for start in _starts(first):
-        lines.extend(_lacking_lines(left, right, start, None))
+        lines.extend(_lacking_lines(left, right, start))
     return _least_line(lines)
 
 
-def _lacking_lines(one, other, start, end):
-    """Return a list with the least line whose way is hidden in the one row alone and has another end; or no line.
+def _lacking_lines(one, other, start):
+    """Return a list with the least line whose way is hidden in the one row alone, or without any line.
 
-    Goes through all such ways by length. Ways that end at the same places of both
-    rows can be led on alike, so the least one stands for all of them.
+    Goes through the ways hidden in both rows by length. Ways that end at the same places
+    of both rows can be led on alike, so the least one stands for all of them.
     """
     steps = next_places(one)
     other_steps = next_places(other)
-    ways = {(0, 0): ()}
-    known = {(0, 0): True}
-    while ways:
+    lines = {(0, 0): (start,)}
+    while lines:
         found = []
         further = {}
-        for (at, other_at), way in ways.items():
-            for colour in sorted(steps[at]):
-                if colour == (way[-1] if way else start):
+        for (at, other_at), line in lines.items():
+            for colour in steps[at]:
+                if colour == line[-1]:
                     continue
-                longer = way + (colour,)
-                beside = None if other_at is None else other_steps[other_at].get(colour)
-                if beside is None and colour != end:
-                    found.append((start,) + longer)
-                state = (steps[at][colour], beside)
+                longer = line + (colour,)
+                if colour not in other_steps[other_at]:
+                    found.append(longer)
+                    continue
+                state = (steps[at][colour], other_steps[other_at][colour])
                 further[state] = min(longer, further.get(state, longer))
         if found:
             return [min(found)]
-        ways = {state: further[state] for state in further if state not in known}
-        for state in ways:
-            known[state] = True
+        lines = further
     return []
 
 

@@ -45,6 +45,7 @@ class Sets(Case):
         self.gives((1, 3, 5), check_colours, [5, 3, 5, 1, 3])
         self.gives((), check_colours, [])
         self.gives((0, 99), check_colours, [99, 0])
+        self.gives((1, 8, 33, 64, 97), check_colours, [97, 64, 33, 8, 1, 64])
 
     def test_twenty_entries_and_one_beyond(self):
         self.gives(tuple(range(20)), check_colours, list(range(19, -1, -1)))
