@@ -22,7 +22,7 @@ def _checked(firsts, script, course):
         if not is_parting(parting) or len(parting) != len(starts):
             raise BadCourse(moment, "parting")
         if moment == 0:
-            if not _is_of_one_colour(parting, starts):
+            if not is_of_one_colour(parting, starts):
                 raise BadCourse(0, "colour")
             continue
         before = course[moment - 1]
@@ -30,11 +30,12 @@ def _checked(firsts, script, course):
             raise BadCourse(moment, "parted")
         if not _may_join(before, shown, pours[moment - 1], parting):
             raise BadCourse(moment, "joined")
-        shown = _shown_behind(shown, pours[moment - 1], parting)
+        shown = shown_behind(shown, pours[moment - 1], parting)
     return starts, pours, tuple([tuple(parting) for parting in course])
 
 
-def _is_of_one_colour(parting, colours):
+def is_of_one_colour(parting, colours):
+    """Return whether marks that are one have one colour."""
     return all([colours[mark] == colours[lead] for mark, lead in enumerate(parting)])
 
 
@@ -58,7 +59,8 @@ def _marks_joined(before, mark, parting):
     ]
 
 
-def _shown_behind(shown, pour, parting):
+def shown_behind(shown, pour, parting):
+    """Return the colours of the marks behind the pour that led to the parting."""
     mark, colour = pour
     return tuple([colour if parting[other] == parting[mark] else own for other, own in enumerate(shown)])
 
@@ -68,7 +70,7 @@ def seen_along(firsts, script, course):
     starts, pours, partings = _checked(firsts, script, course)
     rows = [starts]
     for index, pour in enumerate(pours):
-        rows.append(_shown_behind(rows[-1], pour, partings[index + 1]))
+        rows.append(shown_behind(rows[-1], pour, partings[index + 1]))
     return tuple(rows)
 
 

@@ -64,7 +64,7 @@ def distances_of(picture, cells):
     """Return for each cell the least number of further patches on a way to it, None without a way."""
     chosen = check_cells(picture, cells)
     numbers = numbers_of(picture)
-    near = near_lists(max(numbers) + 1, _patch_ties(picture, numbers))
+    near = near_lists(max(numbers) + 1, patch_ties(picture, numbers))
     reached = [None for patch in near]
     edge = sorted({numbers[cell] for cell in chosen})
     distance = 0
@@ -77,7 +77,8 @@ def distances_of(picture, cells):
     return tuple([reached[number] for number in numbers])
 
 
-def _patch_ties(picture, numbers):
+def patch_ties(picture, numbers):
+    """Return the couples (less, greater) of patches that are tied, ascending."""
     couples = [(numbers[one], numbers[other]) for one, other in picture.ties]
     return sorted({(min(couple), max(couple)) for couple in couples if couple[0] != couple[1]})
 
@@ -90,4 +91,4 @@ def drawn_together(picture):
         if patch in marks[:mark]:
             raise NoDrawing(mark)
     colours = [picture.colours[numbers.index(patch)] for patch in range(max(numbers) + 1)]
-    return Picture(colours, _patch_ties(picture, numbers), marks)
+    return Picture(colours, patch_ties(picture, numbers), marks)

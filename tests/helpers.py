@@ -102,6 +102,70 @@ def naive_parting(colours, ties, marks):
     return tuple(parting)
 
 
+def neighbours(picture, cell):
+    """The set of the cells that are tied to the cell."""
+    return {a if b == cell else b for a, b in picture.ties if cell in (a, b)}
+
+
+def naive_wild(picture, barred):
+    """The set of the wild cells."""
+    taken = set()
+    for cell in picture.marks:
+        taken |= naive_patch(picture.colours, picture.ties, cell)
+    return {cell for cell in range(len(picture)) if cell not in taken and picture.colours[cell] not in barred}
+
+
+def naive_islands(picture, barred):
+    wild = naive_wild(picture, barred)
+    flags = [0 if cell in wild else cell + 1 for cell in range(len(picture))]
+    ties = [tie for tie in picture.ties if tie[0] in wild and tie[1] in wild]
+    islands, gone = [], set()
+    for cell in sorted(wild):
+        if cell not in gone:
+            island = naive_patch(flags, ties, cell)
+            gone |= island
+            islands.append(tuple(sorted(island)))
+    return tuple(islands)
+
+
+def naive_ways(picture, mark, to, barred):
+    """All ways from the one mark to the other: sequences of unlike cells, tied, wild between the patches."""
+    starts, ends = [naive_patch(picture.colours, picture.ties, picture.marks[k]) for k in (mark, to)]
+    wild = naive_wild(picture, barred)
+    begun = [(cell,) for cell in sorted(starts)]
+    while begun:
+        way = begun.pop()
+        if way[-1] in ends:
+            yield way
+        if len(way) == 1 or way[-1] in wild:
+            begun.extend((*way, cell) for cell in sorted(neighbours(picture, way[-1])) if cell not in way)
+
+
+def naive_strike(row):
+    return tuple(colour for at, colour in enumerate(row) if at == 0 or row[at - 1] != colour)
+
+
+def hides(within, row):
+    """Whether the row is hidden in the other one."""
+    rest = iter(within)
+    return all(colour in rest for colour in row)
+
+
+def naive_least(rows):
+    rows = set(rows)
+    least = [row for row in rows if not any(other != row and hides(row, other) for other in rows)]
+    return tuple(sorted(least, key=lambda row: (len(row), row)))
+
+
+def naive_rows(picture, mark, to, barred):
+    """The least rows between two marks, from all ways."""
+    if naive_parting(picture.colours, picture.ties, [picture.marks[mark], picture.marks[to]]) == (0, 0):
+        return ((picture.colours[picture.marks[mark]],),)
+    return naive_least(
+        naive_strike([picture.colours[cell] for cell in way]) for way in naive_ways(picture, mark, to, barred)
+    )
+
+
 def naive_run(colours, ties, marks, script):
     """Return for each moment (parting, colours of the marks, colours of all cells, cells in marks' patches)."""
     colours = list(colours)

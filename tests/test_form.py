@@ -203,14 +203,40 @@ class Form(unittest.TestCase):
                         self.assertEqual(getattr(decorator, "id", None), "property")
 
     def test_methods(self):
+        own = {method.name for _, tree in trees() for node in ast.walk(tree) if isinstance(node, ast.ClassDef)
+               for method in node.body if isinstance(method, ast.FunctionDef)}
+        self.assertFalse(own & METHODS)
         for name, tree in trees():
             for node in ast.walk(tree):
                 if isinstance(node, ast.Call) and isinstance(node.func, ast.Attribute):
                     base = node.func.attr == "__init__" and isinstance(node.func.value, ast.Name)
-                    if node.func.attr not in METHODS and not base:
+                    if node.func.attr not in METHODS | own and not base:
                         self.wrong(name, node, f"method {node.func.attr}")
                     if node.keywords:
                         self.wrong(name, node, "keyword of a method")
+
+    def test_no_attribute_has_the_name_of_a_property_or_of_a_method(self):
+        assigned, named = set(), set()
+        for _, tree in trees():
+            for node in ast.walk(tree):
+                if isinstance(node, ast.Attribute) and isinstance(node.ctx, ast.Store):
+                    assigned.add(node.attr)
+                if isinstance(node, ast.ClassDef):
+                    named |= {method.name for method in node.body if isinstance(method, ast.FunctionDef)}
+        self.assertFalse(assigned & named)
+
+    def test_generators_are_iterated_at_once(self):
+        generators = {node.name for _, tree in trees() for node in functions(tree)
+                      if any(isinstance(part, ast.Yield) for part in ast.walk(node))}
+        for name, tree in trees():
+            for node in ast.walk(tree):
+                if isinstance(node, ast.Name) and node.id in generators:
+                    call = node.parent
+                    self.assertTrue(isinstance(call, ast.Call) and call.func is node, f"{name}: {node.id} as a value")
+                    parent = call.parent
+                    looped = isinstance(parent, (ast.For, ast.comprehension)) and parent.iter is call
+                    if not looped and called(parent) not in TAKERS:
+                        self.wrong(name, node, "not iterated at once")
 
     def test_lazy_things_are_iterated_at_once(self):
         for name, tree in trees():

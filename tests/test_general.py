@@ -2,14 +2,22 @@
 
 import itertools
 
+from spreadhues.bundles import Bundle
+from spreadhues.courses import courses_of
 from spreadhues.everydepth import all_every_rows
 from spreadhues.lots import all_partings
 from spreadhues.pictures import Picture
+from spreadhues.picturesalike import PartingScript
 from spreadhues.reaching import Unreached, WayTo
 from spreadhues.rowsone import PartingLine
 from spreadhues.running import Run, run_script
+from spreadhues.scriptsalike import PartingPicture
+from spreadhues.seenrows import fitting_courses
 from spreadhues.squares import Squares
-from tests.helpers import Case, all_pictures, all_scripts, is_same
+from spreadhues.sure import Both, Never, Sure
+from spreadhues.tables import Table
+from spreadhues.together import Had, NotHad
+from tests.helpers import Case, all_pictures, all_scripts, as_tuples, is_same
 
 
 def objects():
@@ -20,9 +28,41 @@ def objects():
     yield lambda: PartingLine((0, 1))
     yield lambda: WayTo((0, 1))
     yield lambda: Unreached((0, 1))
+    yield lambda: Table((0, 1), (0, 1), [(0, 1, [(0, 1)])])
+    yield lambda: PartingScript((0, 1))
+    yield lambda: Bundle((0, 1), [(0, 1, (0, 1))])
+    yield lambda: Had((0, 1))
+    yield lambda: NotHad(0, 1)
+    yield lambda: PartingPicture((0, 1), 0)
+    yield lambda: Sure()
+    yield lambda: Never()
+    yield lambda: Both((0, 1), (0, 1))
+
+
+def changed():
+    """For each class couples of objects of which just one attribute is unlike."""
+    yield Table((0, 1), (0, 1), [(0, 1, [(0, 1)])]), Table((0, 1), (0, 1), [(0, 1, [])])
+    yield Table((0, 1), (0, 0), [(0, 1, [])]), Table((0, 1), (0, 1), [(0, 1, [])])
+    yield Table((0, 0, 2), (0, 0, 0), [(0, 2, [])]), Table((0, 1, 1), (0, 0, 0), [(0, 1, [])])
+    yield PartingScript(((0, 1),)), PartingScript(((0, 2),))
+    yield Bundle((0, 1), []), Bundle((0, 2), [])
+    yield Bundle((0, 1), [(0, 1, (0, 1))]), Bundle((0, 1), [])
+    yield Bundle((0, 1), [(0, 1, (0, 1)), (0, 1, (0, 2, 1))]), Bundle((0, 1), [(0, 1, (0, 2, 1)), (0, 1, (0, 1))])
+    yield Had(Picture([0], [], [0])), Had(Picture([1], [], [0]))
+    yield NotHad(0, 1), NotHad(0, 2)
+    yield NotHad(0, 1), NotHad(1, 1)
+    yield PartingPicture(Picture([0], [], [0]), 0), PartingPicture(Picture([1], [], [0]), 0)
+    yield PartingPicture(Picture([0], [], [0]), 0), PartingPicture(Picture([0], [], [0]), 1)
+    yield Both(0, 1), Both(0, 2)
+    yield Both(0, 1), Both(2, 1)
 
 
 class Equality(Case):
+    def test_one_attribute_that_is_unlike(self):
+        for one, other in changed():
+            self.assertIs(one == other, False)
+            self.assertIs(one != other, True)
+
     def test_objects_of_two_classes_are_never_equal(self):
         for one, other in itertools.permutations(objects(), 2):
             self.assertIs(one() == other(), False)
@@ -56,6 +96,10 @@ class Generators(Case):
         for generator in (all_partings(4), all_every_rows(3, 2)):
             for row in generator:
                 self.assertTrue(is_same(row, tuple(int(entry) for entry in row)))
+        sight = ([[0, 1], [1, 2]], [[0, 1], [1, 1], [1, 2]])
+        for generator in (courses_of([0, 1], sight[0]), fitting_courses([0, 1], sight)):
+            for course in generator:
+                self.assertTrue(is_same(course, as_tuples(course)))
 
     def test_two_generators_go_on_beside_each_other(self):
         one, other = all_every_rows(3, 2), all_every_rows(3, 2)

@@ -37,10 +37,43 @@ INTERFACE = {
         held_depth(row, colours, first=None); count_lacking(row, colours, depth, first=None);
         every_row(colours, depth, first=None); worst_way(row, colours, first=None);
         lacking_row(row, colours, depth, first=None); yields all_every_rows(colours, depth, first=None)""",
+    "telling": "telling_tree(colours, pours, first); told_row(colours, pours, first, shown)",
+    "islands": """islands_of(picture, barred=()); lots_at(picture, cells); is_separate(picture, barred=());
+        check_separate(picture, barred=())""",
+    "ways": """least_rows(rows); rows_between(picture, mark, to, barred=()); way_within(picture, mark, to, row, barred=());
+        within_fault(picture, mark, to, row, way, barred=())""",
+    "tables": "table_of(picture, barred=()); run_by_table(table, script); class Table(parting, colours, rows)",
+    "picturesalike": """is_lone(one, other, script); lone_alike(one, other, barred=());
+        pictures_alike(one, other, barred=()); unlike_fault(one, other, script, barred=());
+        class PartingScript(script)""",
+    "bundles": """picture_of_bundle(bundle); poured_bundle(bundle, pour); bundle_moments(bundle, script);
+        table_of_bundle(bundle); bundle_of_table(table); least_bundle(bundle); needless_ways(bundle);
+        class Bundle(firsts, ways)""",
+    "bars": "bars_size(bundle); drawn_bars(bundle, wall)",
+    "drawing": "drawing_fault(squares, bundle, wall); squares_like(picture, wall)",
+    "courses": "yields courses_of(firsts, script)",
+    "fates": """MOST_FATES; check_told(firsts, told); fates_of(firsts, told); thing_shows(firsts, told, thing);
+        may_tie(firsts, told, one, other); strikes_of(firsts, told); upheld_fates(firsts, told);
+        whole_picture(firsts, told)""",
+    "together": """had_together(firsts, told); had_fault(firsts, told, picture); class Had(picture);
+        class NotHad(index, moment)""",
+    "scriptsalike": """scripts_alike(marks, one, other, firsts=None); parting_fault(marks, one, other, firsts, told);
+        class PartingPicture(picture, cell)""",
+    "facts": "check_fact(marks, fact); fact_holds(parting, colours, fact)",
+    "sure": """surely(firsts, script, moment, fact); sure_fault(firsts, script, moment, fact, told);
+        rows_at(firsts, script, moment); end_rows(firsts, script); joining_moments(firsts, script, one, other);
+        end_colours(firsts, script, colour); class Sure(); class Never(); class Both(holds, fails)""",
+    "seenrows": """check_sights(firsts, sights, most=3); yields fitting_courses(firsts, sight);
+        unseeable_moment(firsts, sight)""",
 }
 
 # what the interface lists for a class beside its constructor, and == of [0.5]
-METHODS = {"Picture": ("__len__",), "Run": ("__len__", "__iter__", "course", "seen")}
+METHODS = {"Picture": ("__len__",), "Run": ("__len__", "__iter__", "course", "seen"), "Table": ("between",)}
+
+RESULTS = {
+    "Run", "PartingLine", "WayTo", "Unreached", "PartingScript", "Had", "NotHad", "PartingPicture", "Sure", "Never",
+    "Both",
+}
 
 
 def entries():
@@ -68,8 +101,25 @@ class Interface(unittest.TestCase):
             if entry.startswith("class "):
                 name = entry[len("class "):].partition("(")[0]
                 own = vars(getattr(importlib.import_module(module), name))
-                for method in ("__init__", "__eq__", *METHODS.get(name, ())):
+                made = () if entry.endswith("()") else ("__init__",)
+                for method in (*made, "__eq__", *METHODS.get(name, ())):
                     self.assertIn(method, own, entry)
+
+    def test_arguments_of_results_are_their_attributes(self):
+        """A result keeps the very things under the told names, whatever they are."""
+        things = ([0], {1: 2})
+        for module, entry in entries():
+            name, _, given = entry.removeprefix("class ").partition("(")
+            if name in RESULTS:
+                names = [word.strip() for word in given.rstrip(")").split(",") if word]
+                made = getattr(importlib.import_module(module), name)(*things[:len(names)])
+                self.assertEqual(list(vars(made)), names)
+                for attribute, thing in zip(names, things):
+                    self.assertIs(getattr(made, attribute), thing)
+
+    def test_a_method_of_a_table(self):
+        table = importlib.import_module("spreadhues.tables").Table
+        self.assertEqual(str(inspect.signature(table.between)), "(self, mark, to)")
 
     def test_properties(self):
         run = vars(importlib.import_module("spreadhues.running").Run)
