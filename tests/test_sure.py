@@ -203,6 +203,7 @@ class EndColours(Case):
         self.gives((2, 3), end_colours, (0, 1), ((0, 2), (0, 3)), 2)
         self.gives((9,), end_colours, (0, 1), ((0, 2), (0, 3)), 9)
         self.gives((0, 2, 5), end_colours, (0, 1), ((0, 2), (1, 2), (1, 5)), 0)
+        self.gives((9, 16, 33), end_colours, (9, 9), ((0, 33), (1, 16)), 9)
         # an idle pour takes nothing
         self.gives((0,), end_colours, (0, 1), ((0, 0),), 0)
 
