@@ -24,6 +24,19 @@ def patch_numbers(near, colours):
     return numbers
 
 
+def patch_cells(near, colours, start):
+    """Return the cells of the patch of the start, in the order in which they are found."""
+    found = {start: True}
+    waiting = [start]
+    while waiting:
+        cell = waiting.pop()
+        for other in near[cell]:
+            if colours[other] == colours[start] and other not in found:
+                found[other] = True
+                waiting.append(other)
+    return list(found)
+
+
 def numbers_of(picture):
     """Return for each cell of the picture the number of its patch."""
     return patch_numbers(near_lists(len(picture), picture.ties), picture.colours)

@@ -1,7 +1,7 @@
 """Scripts: pours of colours into marks, and the first colours of the marks."""
 
 from spreadhues.colours import is_colour, is_couple, is_sequence, is_whole, wrong_colour
-from spreadhues.errors import BadFirsts, BadMarks, BadPour, BadScript
+from spreadhues.errors import BadFirsts, BadMarks, BadPour, BadScript, BadScripts
 
 MOST_POURS = 12
 MOST_MARKS = 4
@@ -43,6 +43,24 @@ def _pour_fault(marks, pour):
     if not is_colour(pour[1]):
         return "colour"
     return None
+
+
+def check_scripts(marks, scripts, most, longest):
+    """Return one to so many scripts, none of more pours than the longest, as a tuple or raise BadScripts."""
+    if not is_sequence(scripts) or not 1 <= len(scripts) <= most:
+        raise BadScripts(0)
+    for index, script in enumerate(scripts):
+        if not _is_script(marks, script) or len(script) > longest:
+            raise BadScripts(index)
+    return tuple([check_script(marks, script) for script in scripts])
+
+
+def _is_script(marks, script):
+    try:
+        check_script(marks, script)
+    except BadScript:
+        return False
+    return True
 
 
 def check_firsts(marks, firsts):

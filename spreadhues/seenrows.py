@@ -46,7 +46,7 @@ def _is_row(marks, row):
     return True
 
 
-def _fitting(starts, script, rows):
+def fit_rows(starts, script, rows):
     """Return the courses that show the first of the rows, as many as there are pours and one more, ascending."""
     begun = [(parting,) for parting in first_partings(starts)]
     for index, pour in enumerate(script):
@@ -62,7 +62,7 @@ def _fitting(starts, script, rows):
 def fitting_courses(firsts, sight):
     """Yield all courses that fit the sight, ascending."""
     script, rows = check_sights(firsts, [sight], 1)[0]
-    for course in _fitting(rows[0], script, rows):
+    for course in fit_rows(rows[0], script, rows):
         yield course
 
 
@@ -70,6 +70,6 @@ def unseeable_moment(firsts, sight):
     """Return the least moment up to which no course fits the sight, None if some course fits it whole."""
     script, rows = check_sights(firsts, [sight], 1)[0]
     for moment in range(1, len(script) + 1):
-        if not _fitting(rows[0], script[:moment], rows):
+        if not fit_rows(rows[0], script[:moment], rows):
             return moment
     return None

@@ -40,7 +40,8 @@ def _checked(firsts, script):
     return starts, check_script(len(starts), script)
 
 
-def _check_moment(pours, moment):
+def check_moment(pours, moment):
+    """Raise BadMoment if the script of the pours has no such moment."""
     if not is_whole(moment, 0, len(pours)):
         raise BadMoment(moment)
 
@@ -60,7 +61,7 @@ def _ways_it_can_stand(starts, pours):
 def surely(firsts, script, moment, fact):
     """Return Sure, Never or Both for the fact at the moment of the script."""
     starts, pours = _checked(firsts, script)
-    _check_moment(pours, moment)
+    check_moment(pours, moment)
     checked = check_fact(len(starts), fact)
     head = pours[:moment]
     courses = {True: [], False: []}
@@ -98,7 +99,7 @@ def _holds_in(picture, pours, moment, fact):
 def rows_at(firsts, script, moment):
     """Return all rows of colours that the marks can have at the moment, ascending."""
     starts, pours = _checked(firsts, script)
-    _check_moment(pours, moment)
+    check_moment(pours, moment)
     return tuple(sorted({shown for parting, shown in _ways_it_can_stand(starts, pours[:moment])}))
 
 

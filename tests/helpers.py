@@ -214,3 +214,54 @@ def all_rows(colours, most):
     """All rows of at most so many colours."""
     for many in range(most + 1):
         yield from itertools.product(range(colours), repeat=many)
+
+
+def naive_poured(colours, ties, marks, pour):
+    """Return the colours of all cells behind the pour."""
+    patch = naive_patch(colours, ties, marks[pour[0]])
+    return tuple(pour[1] if cell in patch else own for cell, own in enumerate(colours))
+
+
+def naive_holds(colours, ties, marks, wish):
+    """Whether the wish holds in the colours of all cells."""
+    if wish[0] == "all one":
+        return len(naive_patch(colours, ties, 0)) == len(colours)
+    if wish[0] == "one":
+        return marks[wish[2]] in naive_patch(colours, ties, marks[wish[1]])
+    if wish[0] == "colour":
+        return colours[marks[wish[1]]] == wish[2]
+    return any(wish[1] in naive_patch(colours, ties, cell) for cell in marks)
+
+
+def all_wishes(cells, marks, colours):
+    """All wishes for a picture of so many cells, marks and colours."""
+    yield ("all one",)
+    yield from (("one", *pair) for pair in itertools.permutations(range(marks), 2))
+    yield from itertools.product(("colour",), range(marks), range(colours))
+    yield from (("reached", cell) for cell in range(cells))
+
+
+def wrong_wishes(cells, marks):
+    """Things that are no wishes for a picture of so many cells and marks."""
+    yield from NO_SEQUENCES
+    yield from ((), ("all one", 0), ("all",), (0,), (True,), (None,), ((),), ("ALL ONE",), ("one",), ("reached",))
+    yield from (("one", 0), ("one", 0, 1, 2), ("colour", 0), ("colour", 0, 1, 2), ("reached", 0, 0), ("one two", 0, 1))
+    yield from ((0, 0, 1), (("one",), 0, 1), ("reaches", 0), ("", 0), ("not", ("all one",)), ("came by", 0, 1))
+    for thing in (-1, marks, *NO_NUMBERS):
+        yield from (("one", thing, 0), ("one", 0, thing), ("colour", thing, 0))
+    yield from (("one", mark, mark) for mark in range(marks))
+    yield from (("colour", 0, thing) for thing in (-1, 100, *NO_NUMBERS))
+    yield from (("reached", thing) for thing in (-1, cells, *NO_NUMBERS))
+
+
+def chance_picture(chance, cells, colours, marks, density):
+    """A picture of so many cells, with each tie with so great a chance."""
+    shown = [chance.randrange(colours) for _ in range(cells)]
+    ties = [tie for tie in itertools.combinations(range(cells), 2) if chance.random() < density]
+    return Picture(shown, ties, chance.sample(range(cells), marks))
+
+
+def line_of_patches(many, colours, marks):
+    """A line of so many patches of two cells each; the colours go round."""
+    shown = [spot % colours for spot in range(many) for _ in range(2)]
+    return Picture(shown, [(cell, cell + 1) for cell in range(2 * many - 1)], marks)

@@ -2,9 +2,15 @@
 
 import itertools
 
+from spreadhues.answers import Played
+from spreadhues.bench import Bench
 from spreadhues.bundles import Bundle
 from spreadhues.courses import courses_of
 from spreadhues.everydepth import all_every_rows
+from spreadhues.fewest import Fewest, NeverSo, Ranks, fewest_scripts
+from spreadhues.floors import Measures
+from spreadhues.guessing import Fit, NoFit, readings_of
+from spreadhues.hands import Book, Forced, Kept
 from spreadhues.lots import all_partings
 from spreadhues.pictures import Picture
 from spreadhues.picturesalike import PartingScript
@@ -37,6 +43,16 @@ def objects():
     yield lambda: Sure()
     yield lambda: Never()
     yield lambda: Both((0, 1), (0, 1))
+    yield lambda: Fit((0, 1))
+    yield lambda: NoFit(0)
+    yield lambda: Measures(0, 1, 0, 1)
+    yield lambda: Fewest((0, 1), (0, 1))
+    yield lambda: NeverSo((0, 1))
+    yield lambda: Ranks((0, 1))
+    yield lambda: Forced((0, 1), (0, 1))
+    yield lambda: Kept((0, 1))
+    yield lambda: Book((0, 1))
+    yield lambda: Played((0, 1), (0, 1), (0, 1))
 
 
 def changed():
@@ -55,6 +71,20 @@ def changed():
     yield PartingPicture(Picture([0], [], [0]), 0), PartingPicture(Picture([0], [], [0]), 1)
     yield Both(0, 1), Both(0, 2)
     yield Both(0, 1), Both(2, 1)
+    yield Fit(Picture([0], [], [0])), Fit(Picture([1], [], [0]))
+    yield NoFit(0), NoFit(1)
+    yield Fewest(1, ()), Fewest(2, ())
+    yield Fewest(1, ()), Fewest(1, ((0, 1),))
+    yield NeverSo(((0,),)), NeverSo(())
+    yield Ranks(()), Ranks((((0,), 1),))
+    yield Forced(1, Book(())), Forced(2, Book(()))
+    yield Forced(1, Book(())), Forced(1, Book((1,)))
+    yield Kept(Book(())), Kept(Book((1,)))
+    yield Kept(Book(())), Forced(None, Book(()))
+    for at in range(4):
+        yield Measures(1, 2, 3, 4), Measures(*[0 if k == at else k + 1 for k in range(4)])
+    for at in range(3):
+        yield Played(1, 2, 3), Played(*[0 if k == at else k + 1 for k in range(3)])
 
 
 class Equality(Case):
@@ -80,6 +110,16 @@ class Equality(Case):
                 self.assertIs(made() != thing, True)
 
 
+class Benches(Case):
+    def test_a_bench_alone_has_no_equal(self):
+        picture = Picture([0], [], [0])
+        bench = Bench(picture)
+        for thing in (Bench(picture), picture, None, ()):
+            self.assertIs(bench == thing, False)
+            self.assertIs(bench != thing, True)
+        self.assertIs(bench == bench, True)
+
+
 class LotsGrow(Case):
     def test_the_colour_of_a_lot_is_that_of_the_last_pour_into_it(self):
         for picture in all_pictures(3, 2, [0, 2]):
@@ -100,6 +140,14 @@ class Generators(Case):
         for generator in (courses_of([0, 1], sight[0]), fitting_courses([0, 1], sight)):
             for course in generator:
                 self.assertTrue(is_same(course, as_tuples(course)))
+
+        for generator in (
+            readings_of([0, 1], [list(sight), [[], [[0, 1]]]]),
+            fewest_scripts(Picture([0, 1, 2], [(0, 1), (1, 2)], [0]), [0], [2, 1], ["all one"]),
+        ):
+            items = list(generator)
+            self.assertTrue(items)
+            self.assertTrue(is_same(tuple(items), as_tuples(items)))
 
     def test_two_generators_go_on_beside_each_other(self):
         one, other = all_every_rows(3, 2), all_every_rows(3, 2)

@@ -65,14 +65,58 @@ INTERFACE = {
         end_colours(firsts, script, colour); class Sure(); class Never(); class Both(holds, fails)""",
     "seenrows": """check_sights(firsts, sights, most=3); yields fitting_courses(firsts, sight);
         unseeable_moment(firsts, sight)""",
+    "guessing": """yields readings_of(firsts, sights); fitting_picture(firsts, sights); fit_fault(firsts, sights, answer);
+        class Fit(picture); class NoFit(index)""",
+    "asking": """possible_rows(firsts, sights, script); surely_next(firsts, sights, script, moment, fact);
+        next_fault(firsts, sights, script, moment, fact, answer); which_asks(firsts, sights, scripts);
+        settling_asks(firsts, sights, scripts, script, moment, fact)""",
+    "implied": "clashing_sights(firsts, sights); needless_sights(firsts, sights); enough_sights(firsts, sights)",
+    "placing": "placed_cells(picture, scripts)",
+    "wishes": "check_wish(picture, wish); wish_holds(picture, wish)",
+    "standings": """check_choice(picture, chosen, colours); standing_behind(picture, standing, pour);
+        closed_standings(picture, chosen, colours)""",
+    "floors": """floor_of(picture, mark); greedy_row(picture, mark); joining_head(picture, mark, row);
+        fewest_row(picture, mark); measures_of(picture, mark); class Measures(floor, fewest, greedy, always)""",
+    "fewest": """fewest_pours(picture, chosen, colours, wish); yields fewest_scripts(picture, chosen, colours, wish);
+        count_fewest(picture, chosen, colours, wish); ranks_of(picture, chosen, colours, wish);
+        fewest_fault(picture, chosen, colours, wish, answer); class Fewest(number, script); class NeverSo(standings);
+        class Ranks(rows)""",
+    "hands": """check_hands(picture, mine, theirs, colours); forced(picture, mine, theirs, colours, aim);
+        least_hands(picture, mine, theirs, colours, aim); class Forced(rank, book); class Kept(book);
+        class Book(rows)""",
+    "answers": """book_fault(picture, mine, theirs, colours, aim, answer);
+        play_hands(picture, mine, theirs, colours, aim, answer, choose, most=24); class Played(pours, picture, held)""",
+    "orders": """change_places(marks, one, other); first_order(marks, script); are_orders(marks, one, other);
+        count_orders(marks, script)""",
+    "blocks": """blocks_of(marks, script); first_blocks_script(blocks); fullest_blocks(marks, script);
+        surely_same(marks, one, other); lean_script(marks, script); needless_fault(marks, script, index);
+        shortest_alike(marks, script)""",
+    "rounds": """after_rounds(picture, script, times); settled_after(picture, script); settled_picture(picture, script);
+        rounds_came(picture, script); ever_one(picture, script, mark, other)""",
+    "edits": "check_edits(picture, script, edits); edited(picture, script, edits); quiet_edits(picture, script, edits)",
+    "mends": """check_goal(picture, goal); goal_holds(picture, script, goal); find_mends(picture, script, goal, pool);
+        mends_fault(picture, script, goal, pool, told); find_spoilers(picture, script, goal, pool)""",
+    "bench": "class Bench(picture)",
 }
 
 # what the interface lists for a class beside its constructor, and == of [0.5]
-METHODS = {"Picture": ("__len__",), "Run": ("__len__", "__iter__", "course", "seen"), "Table": ("between",)}
+METHODS = {
+    "Picture": ("__len__",), "Run": ("__len__", "__iter__", "course", "seen"), "Table": ("between",),
+    "Measures": ("loss",), "Ranks": ("rank_of", "__iter__"), "Book": ("pour_for",),
+    "Bench": ("pour_into", "pour_all", "take_back", "change", "trying", "trial_of"),
+}
+
+SIGNATURES = {
+    ("tables", "Table", "between"): "(self, mark, to)", ("fewest", "Ranks", "rank_of"): "(self, standing)",
+    ("hands", "Book", "pour_for"): "(self, standing)", ("bench", "Bench", "pour_into"): "(self, mark, colour)",
+    ("bench", "Bench", "pour_all"): "(self, script)", ("bench", "Bench", "take_back"): "(self, many=1)",
+    ("bench", "Bench", "change"): "(self, edits)", ("bench", "Bench", "trying"): "(self, action)",
+    ("bench", "Bench", "trial_of"): "(self, script)",
+}
 
 RESULTS = {
     "Run", "PartingLine", "WayTo", "Unreached", "PartingScript", "Had", "NotHad", "PartingPicture", "Sure", "Never",
-    "Both",
+    "Both", "Fit", "NoFit", "Measures", "Fewest", "NeverSo", "Ranks", "Forced", "Kept", "Book", "Played",
 }
 
 
@@ -102,12 +146,14 @@ class Interface(unittest.TestCase):
                 name = entry[len("class "):].partition("(")[0]
                 own = vars(getattr(importlib.import_module(module), name))
                 made = () if entry.endswith("()") else ("__init__",)
-                for method in (*made, "__eq__", *METHODS.get(name, ())):
+                compared = () if name == "Bench" else ("__eq__",)
+                for method in (*made, *compared, *METHODS.get(name, ())):
                     self.assertIn(method, own, entry)
+                self.assertEqual("__eq__" in own, name != "Bench")
 
     def test_arguments_of_results_are_their_attributes(self):
         """A result keeps the very things under the told names, whatever they are."""
-        things = ([0], {1: 2})
+        things = ([0], {1: 2}, None, (3,))
         for module, entry in entries():
             name, _, given = entry.removeprefix("class ").partition("(")
             if name in RESULTS:
@@ -117,14 +163,21 @@ class Interface(unittest.TestCase):
                 for attribute, thing in zip(names, things):
                     self.assertIs(getattr(made, attribute), thing)
 
-    def test_a_method_of_a_table(self):
-        table = importlib.import_module("spreadhues.tables").Table
-        self.assertEqual(str(inspect.signature(table.between)), "(self, mark, to)")
+    def test_arguments_of_methods(self):
+        for (module, name, method), given in SIGNATURES.items():
+            thing = getattr(importlib.import_module(f"spreadhues.{module}"), name)
+            self.assertEqual(str(inspect.signature(getattr(thing, method))), given)
 
     def test_properties(self):
-        run = vars(importlib.import_module("spreadhues.running").Run)
-        for name in ("course", "seen"):
-            self.assertIsInstance(run[name], property)
+        for module, name, properties in (("running", "Run", ("course", "seen")), ("floors", "Measures", ("loss",))):
+            own = vars(getattr(importlib.import_module(f"spreadhues.{module}"), name))
+            for word in properties:
+                self.assertIsInstance(own[word], property)
+
+    def test_attributes_of_a_bench(self):
+        picture = importlib.import_module("spreadhues.pictures").Picture([0], [], [0])
+        bench = importlib.import_module("spreadhues.bench").Bench(picture)
+        self.assertEqual((bench.first, bench.picture, bench.log), (picture, picture, ()))
 
 
 if __name__ == "__main__":

@@ -104,3 +104,64 @@ def naive_lack(firsts, told):
                 ):
                     return index, moment
     return None
+
+
+def naive_partings(marks):
+    """All partings of so many marks."""
+    for parting in itertools.product(range(marks), repeat=marks):
+        if all(lead <= k and parting[lead] == lead for k, lead in enumerate(parting)):
+            yield parting
+
+
+def follows(before, shown, pour, behind):
+    """Whether the rule of [2.6] lets a pour lead from one parting, with these colours, to another."""
+    mark, colour = pour
+    marks = range(len(before))
+    if shown[mark] == colour:
+        return before == behind
+    for k in marks:
+        for j in marks:
+            was, now = before[k] == before[j], behind[k] == behind[j]
+            if was and not now:
+                return False
+            if now and not was and behind[k] != behind[mark]:
+                return False
+        if behind[k] == behind[mark] and before[k] != before[mark] and shown[k] != colour:
+            return False
+    return True
+
+
+def naive_courses(firsts, script):
+    """All courses that follow the rule, ascending."""
+    partings = list(naive_partings(len(firsts)))
+    begun = [(p,) for p in partings if all(firsts[k] == firsts[lead] for k, lead in enumerate(p))]
+    for t, pour in enumerate(script):
+        begun = [
+            (*course, p) for course in begun for p in partings
+            if follows(course[-1], seen_rows(firsts, script[:t], course)[-1], pour, p)
+        ]
+    return begun
+
+
+def naive_readings(firsts, sights):
+    """All readings of the sights, ascending: fitting courses that are had together."""
+    fitting = [
+        [course for course in naive_courses(firsts, script) if tuple(seen_rows(firsts, script, course)) == rows]
+        for script, rows in sights
+    ]
+    scripts = [script for script, _ in sights]
+    for reading in itertools.product(*fitting):
+        if len({course[0] for course in reading}) <= 1:
+            if not reading or naive_lack(firsts, tuple(zip(scripts, reading))) is None:
+                yield reading
+
+
+def naive_shown(firsts, sights):
+    """Whether some picture shows all the sights."""
+    return next(naive_readings(firsts, sights), None) is not None
+
+
+def naive_possible(firsts, sights, script):
+    """All rows that the script shows on pictures that show the sights, ascending."""
+    rows = {tuple(seen_rows(firsts, script, course)) for course in naive_courses(firsts, script)}
+    return tuple(row for row in sorted(rows) if naive_shown(firsts, (*sights, (script, row))))
