@@ -131,12 +131,17 @@ def count_fewest(picture, chosen, colours, wish):
         return 0
     begun = {search.board.start: 1}
     for _ in range(search.ranks[search.board.start]):
-        further = {}
-        for standing, many in begun.items():
-            for pour, behind in search.nearer(standing):
-                further[behind] = further.get(behind, 0) + many
-        begun = further
+        begun = _counts_behind(search, begun)
     return sum(begun.values())
+
+
+def _counts_behind(search, counts):
+    """Return how many scripts lead to each standing one pour nearer, given how many lead to those before."""
+    behinds = {}
+    for standing, many in counts.items():
+        for pour, behind in search.nearer(standing):
+            behinds[behind] = behinds.get(behind, 0) + many
+    return behinds
 
 
 def ranks_of(picture, chosen, colours, wish):

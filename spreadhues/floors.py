@@ -46,22 +46,24 @@ def greedy_row(picture, mark):
     for spot in board.numbers:
         sizes[spot] += 1
     row = []
-    inside = {}
-    border = {}
-    taken = [board.marks[mark]]
-    while taken:
+    inside = {board.marks[mark]: True}
+    border = _border_spots(board.near, inside)
+    while border:
+        grown = {}
+        for spot in border:
+            colour = board.start[spot]
+            grown[colour] = grown.get(colour, 0) + sizes[spot]
+        row.append(min([(-size, colour) for colour, size in grown.items()])[1])
+        taken = [spot for spot in border if board.start[spot] == row[-1]]
         for spot in taken:
             inside[spot] = True
-        for spot in taken:
-            for other in board.near[spot]:
-                if other not in inside:
-                    border.setdefault(board.start[other], {})[other] = True
-        taken = []
-        if border:
-            worths = [(-sum([sizes[spot] for spot in spots]), colour) for colour, spots in border.items()]
-            row.append(min(worths)[1])
-            taken = list(border.pop(row[-1]))
+        border = _border_spots(board.near, inside)
     return tuple(row)
+
+
+def _border_spots(near, inside):
+    """Return the spots outside that are tied to one inside, ascending."""
+    return sorted({other for spot in inside for other in near[spot] if other not in inside})
 
 
 def joining_head(picture, mark, row):
@@ -76,18 +78,20 @@ def fewest_row(picture, mark):
     board = check_patches(picture, MOST_PATCHES)
     every = (1 << len(board.corners)) - 1
     near = [sum([1 << other for other in others]) for others in board.near]
-    # sets of spots are numbers; each set of one length is reached first by its least row
+    # sets of spots are numbers, each with the least row that leads to it
     rows = {1 << board.marks[mark]: ()}
-    edge = list(rows)
     while every not in rows:
-        further = []
-        for inside in edge:
-            for colour, grown in _grown_sets(board.start, near, inside):
-                if grown not in rows:
-                    rows[grown] = rows[inside] + (colour,)
-                    further.append(grown)
-        edge = further
+        rows = _longer_rows(board.start, near, rows)
     return rows[every]
+
+
+def _longer_rows(colours, near, rows):
+    """Return a dict: for each set to which one more pour leads, the least row; both dicts ascend by their rows."""
+    longer = {}
+    for inside, row in rows.items():
+        for colour, grown in _grown_sets(colours, near, inside):
+            longer.setdefault(grown, row + (colour,))
+    return longer
 
 
 def _grown_sets(colours, near, inside):

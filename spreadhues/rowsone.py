@@ -133,23 +133,27 @@ def _lacking_lines(one, other, start):
     steps = next_places(one)
     other_steps = next_places(other)
     lines = {(0, 0): (start,)}
-    while lines:
-        found = []
-        further = {}
-        for (at, other_at), line in lines.items():
-            for colour in steps[at]:
-                if colour == line[-1]:
-                    continue
-                longer = line + (colour,)
-                if colour not in other_steps[other_at]:
-                    found.append(longer)
-                    continue
-                state = (steps[at][colour], other_steps[other_at][colour])
-                further[state] = min(longer, further.get(state, longer))
-        if found:
-            return [min(found)]
-        lines = further
-    return []
+    lacking = []
+    while lines and not lacking:
+        lacking, lines = _longer_lines(steps, other_steps, lines)
+    return sorted(lacking)[:1]
+
+
+def _longer_lines(steps, other_steps, lines):
+    """Return the lines of one more colour: a list of those hidden in the one row alone, a dict of those in both."""
+    lacking = []
+    further = {}
+    for (at, other_at), line in lines.items():
+        for colour in steps[at]:
+            if colour == line[-1]:
+                continue
+            longer = line + (colour,)
+            if colour not in other_steps[other_at]:
+                lacking.append(longer)
+                continue
+            state = (steps[at][colour], other_steps[other_at][colour])
+            further[state] = min(longer, further.get(state, longer))
+    return lacking, further
 
 
 def shortest_over(rows, first=None):
@@ -177,12 +181,17 @@ def _shortest_common(rows):
     start = tuple([0 for row in rows])
     heads = {start: ()}
     while goal not in heads:
-        longer = {}
-        for state, head in heads.items():
-            nexts = [row[at] for row, at in zip(rows, state) if at < len(row)]
-            for colour in sorted(set(nexts)):
-                behind = tuple([at + 1 if row[at:at + 1] == (colour,) else at for row, at in zip(rows, state)])
-                further = head + (colour,)
-                longer[behind] = min(further, longer.get(behind, further))
-        heads = longer
+        heads = _longer_heads(rows, heads)
     return heads[goal]
+
+
+def _longer_heads(rows, heads):
+    """Return a dict: for each state to which one more colour leads, the least head that leads there."""
+    longer = {}
+    for state, head in heads.items():
+        nexts = [row[at] for row, at in zip(rows, state) if at < len(row)]
+        for colour in sorted(set(nexts)):
+            behind = tuple([at + 1 if row[at:at + 1] == (colour,) else at for row, at in zip(rows, state)])
+            further = head + (colour,)
+            longer[behind] = min(further, longer.get(behind, further))
+    return longer

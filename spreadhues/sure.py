@@ -50,12 +50,16 @@ def _ways_it_can_stand(starts, pours):
     """Return a dict of all couples (parting, colours) behind the pours, each with one course that leads to it."""
     standing = {(parting, starts): (parting,) for parting in first_partings(starts)}
     for pour in pours:
-        behind = {}
-        for (parting, shown), course in standing.items():
-            for further in led_on(parting, shown, pour):
-                behind.setdefault(further, course + (further[0],))
-        standing = behind
+        standing = _ways_behind(standing, pour)
     return standing
+
+
+def _ways_behind(standing, pour):
+    behind = {}
+    for (parting, shown), course in standing.items():
+        for further in led_on(parting, shown, pour):
+            behind.setdefault(further, course + (further[0],))
+    return behind
 
 
 def surely(firsts, script, moment, fact):

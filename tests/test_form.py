@@ -19,6 +19,7 @@ BARRED = set("""register mro elements open input law version_info with_traceback
     locals methodcaller os quit setattr super type vars sys print""".split())
 LAZY = {"zip", "enumerate", "reversed", "range", "map"}
 VIEWS = {"items", "keys", "values"}
+CHANGING = {"append", "clear", "extend", "insert", "pop", "remove", "reverse", "setdefault", "update"}
 TAKERS = {"list", "tuple", "dict", "sorted", "sum", "any", "all", "enumerate", "zip", "min", "max"}
 STATEMENTS = (
     ast.FunctionDef, ast.ClassDef, ast.Return, ast.Delete, ast.Assign, ast.AugAssign, ast.For, ast.While, ast.If,
@@ -56,6 +57,53 @@ def stored(node):
 
 def called(node):
     return node.func.id if isinstance(node, ast.Call) and isinstance(node.func, ast.Name) else None
+
+
+def names_in(node):
+    return {part.id for part in ast.walk(node) if isinstance(part, ast.Name)}
+
+
+def shared_names(function):
+    """A function that gives names which stand for one thing, as far as plain assignments tell, one name."""
+    linked = {}
+
+    def one_name(word):
+        return word if word not in linked else one_name(linked[word])
+
+    def link(word, value):
+        for choice in {ast.IfExp: ["body", "orelse"], ast.BoolOp: ["values"]}.get(type(value), []):
+            part = getattr(value, choice)
+            for each in part if isinstance(part, list) else [part]:
+                link(word, each)
+        while isinstance(value, (ast.Attribute, ast.Subscript)):
+            value = value.value
+        if isinstance(value, ast.Name) and one_name(word) != one_name(value.id):
+            linked[one_name(word)] = one_name(value.id)
+
+    for node in ast.walk(function):
+        if isinstance(node, ast.Assign):
+            for target in node.targets:
+                if isinstance(target, ast.Name):
+                    link(target.id, node.value)
+    return one_name
+
+
+def gone_over(node):
+    """The names of what a loop goes over; list(..), sorted(..) and own functions give another thing."""
+    if called(node) in ("enumerate", "zip", "reversed"):
+        return {word for part in node.args for word in gone_over(part)}
+    if isinstance(node, ast.Call) and isinstance(node.func, ast.Attribute) and node.func.attr in VIEWS:
+        return gone_over(node.func.value)
+    return set() if called(node) else names_in(node)
+
+
+def changed_names(node):
+    """The names in the expression for the thing, of which the node itself changes an item or which it makes longer."""
+    if isinstance(node, ast.Call) and isinstance(node.func, ast.Attribute) and node.func.attr in CHANGING:
+        return names_in(node.func.value)
+    if isinstance(node, ast.Subscript) and not isinstance(node.ctx, ast.Load):
+        return names_in(node.value)
+    return set()
 
 
 def is_docstring(node):
@@ -258,19 +306,38 @@ class Form(unittest.TestCase):
                         self.wrong(name, node, "a set that is kept or iterated")
 
     def test_loops_do_not_change_what_they_go_over(self):
-        changing = {"append", "clear", "extend", "insert", "pop", "remove", "reverse", "setdefault", "update"}
         for name, tree in trees():
-            for loop in ast.walk(tree):
-                if not isinstance(loop, ast.For):
-                    continue
-                gone = {part.id for part in ast.walk(loop.iter) if isinstance(part, ast.Name)}
-                for node in [part for row in loop.body for part in ast.walk(row)]:
-                    if isinstance(node, ast.Call) and isinstance(node.func, ast.Attribute):
-                        target = node.func.value
-                        if node.func.attr in changing and isinstance(target, ast.Name) and target.id in gone:
+            for function in functions(tree):
+                sharing = shared_names(function)
+                for loop in [node for node in ast.walk(function) if isinstance(node, ast.For)]:
+                    gone = gone_over(loop.iter)
+                    shared = {sharing(part) for part in gone}
+                    for node in [part for row in loop.body for part in ast.walk(row)]:
+                        if isinstance(node, ast.Name) and isinstance(node.ctx, ast.Store) and node.id in gone:
+                            self.wrong(name, node, "assigns what is iterated")
+                        if shared & {sharing(part) for part in changed_names(node)}:
                             self.wrong(name, node, "changes what is iterated")
-                    if isinstance(node, ast.Name) and isinstance(node.ctx, ast.Store) and node.id in gone:
-                        self.wrong(name, node, "assigns what is iterated")
+
+    def test_what_the_test_of_loops_tells(self):
+        for changed, text in (
+            (True, "for x in xs:\n  xs.append(x)"),
+            (True, "for x in xs:\n  xs[0] = x"),
+            (True, "for x in enumerate(xs):\n  xs[0] += 1"),
+            (True, "for x in xs.items():\n  del xs[0]"),
+            (True, "for x in b.near[0]:\n  d.setdefault(b.start[x], {})[x] = 1"),
+            (True, "for x in xs:\n  ys.append(x)\nxs = ys"),
+            (True, "for x in xs:\n  ys[x] = 1\nxs = zs if a else ys"),
+            (False, "for x in list(xs):\n  xs.append(x)"),
+            (False, "for x in f(xs):\n  xs[x] = 1"),
+            (False, "for x in xs:\n  ys.append(x)\nxs = list(ys)"),
+            (False, "for x in xs:\n  ys.append(x)\n"),
+            (False, "for x in xs:\n  ys.get(x)\nxs = ys"),
+        ):
+            function = ast.parse("def f():\n  " + text.replace("\n", "\n  ")).body[0]
+            sharing = shared_names(function)
+            shared = {sharing(part) for part in gone_over(function.body[0].iter)}
+            told = {sharing(part) for node in ast.walk(function.body[0]) for part in changed_names(node)}
+            self.assertEqual(bool(shared & told), changed, text)
 
     def test_names_in_comprehensions(self):
         for name, tree in trees():
